@@ -3,11 +3,8 @@
 from mustrows.stands import exchanged
 
 
-# All fits have the same letters in the same order,
-# so they are in order where their cells are.
 def fits(rows, body):
-    letters = letters_of(body)
-    return [list(zip(letters, cells)) for cells in joined(rows, body, letters)]
+    return fits_from(rows, body, [], [()])
 
 
 def filled(patterns, fit):
@@ -28,19 +25,40 @@ def letters_of(patterns):
 
 
 # The cells of the wanted letters in each fit of the body, in order, each once.
+def joined(rows, body, wanted):
+    return joined_from(rows, body, wanted, [], [()])
+
+
+# All fits of the body whose cells for the known letters are among those found.
+# All have the same letters in the same order, so they are in order where their cells are.
+def fits_from(rows, body, known, found):
+    letters = letters_of(body)
+    return [list(zip(letters, cells)) for cells in joined_from(rows, body, letters, known, found)]
+
+
+# One of the fits of the body that have these cells for the known letters.
+# One letter at a time: all such fits may be very many.
+def fit_with(rows, body, known, cells):
+    known = list(known)
+    for letter in letters_of(body):
+        if letter not in known:
+            cells = joined_from(rows, body, known + [letter], known, [cells])[0]
+            known.append(letter)
+    return sorted(zip(known, cells))
+
+
+# As joined, where cells for the known letters, which are wanted or in the body, have been found already.
 # Letters that nobody asks for any more are let go at once: a question of few
 # letters is then answered without walking through each fit of its body.
-def joined(rows, body, wanted):
-    known = []
-    found = [()]
-    patterns = search_order(rows, body)
-    for place, pattern in enumerate(patterns):
-        later = list(wanted) + letters_of(patterns[place + 1:])
-        own = letters_of([pattern])
+def joined_from(rows, body, wanted, known, found):
+    pairs = search_order(rows, body, known)
+    for place, pair in enumerate(pairs):
+        later = list(wanted) + letters_of([behind[0] for behind in pairs[place + 1:]])
+        own = letters_of([pair[0]])
         shared = [letter for letter in own if letter in known]
         added = [letter for letter in own if letter in later and letter not in known]
         kept = [letter for letter in known if letter in later]
-        groups = grouped(bindings(rows, pattern), shared, added)
+        groups = grouped(pair[1], shared, added)
         found = extended(found, places_of(shared, known), places_of(kept, known), groups)
         known = kept + added
     # By now just the wanted letters are known, so what is picked is still unlike.
@@ -48,14 +66,14 @@ def joined(rows, body, wanted):
     return sorted([picked(cells, wanted_places) for cells in found])
 
 
-# Patterns of few rows first, but none that has nothing in common with those
-# ahead of it while there is one that has: the search is kept narrow so.
-def search_order(rows, body):
-    rest = sorted(body, key=lambda pattern: len(bindings(rows, pattern)))
+# Patterns, each with its bindings: those of few rows first, but none that has nothing in common
+# with those ahead of it while there is one that has: the search is kept narrow so.
+def search_order(rows, body, known):
+    rest = sorted([(pattern, bindings(rows, pattern)) for pattern in body], key=lambda pair: len(pair[1]))
     placed = []
     while rest:
-        known = letters_of(placed)
-        linked = [pattern for pattern in rest if is_linked(pattern, known)]
+        bound = list(known) + letters_of([pair[0] for pair in placed])
+        linked = [pair for pair in rest if is_linked(pair[0], bound)]
         taken = linked[0] if linked else rest[0]
         rest.remove(taken)
         placed.append(taken)

@@ -6,26 +6,7 @@ import unittest
 
 from mustrows.fits import answers, filled, fits
 from mustrows.stands import stand_of
-
-
-def name(text):
-    return ("name", text)
-
-
-def blank(number):
-    return ("blank", number)
-
-
-def unknown(letter):
-    return ("any", letter)
-
-
-def row(table, *cells):
-    return (table, tuple(cells))
-
-
-A, B, C, D, Z = [unknown(letter) for letter in "ABCDZ"]
-X, Y, W = name("x"), name("y"), name("w")
+from things import A, B, C, D, W, X, Y, Z, blank, name, plain_filled, plain_fits, plain_letters, row, some_stand
 
 
 class Fits(unittest.TestCase):
@@ -204,27 +185,8 @@ class Answers(unittest.TestCase):
 class AgainstTheWords(unittest.TestCase):
     """Fits and answers as the document words them: each cell tried for each unknown."""
 
-    def plain_fits(self, stand, body):
-        letters = sorted({term[1] for table, terms in body for term in terms if term[0] == "any"})
-        cells = sorted({cell for table, cells in stand for cell in cells})
-        found = []
-        for choice in itertools.product(cells, repeat=len(letters)):
-            cell_of = dict(zip(letters, choice))
-            rows = [
-                (table, tuple(cell_of[term[1]] if term[0] == "any" else term for term in terms))
-                for table, terms in body
-            ]
-            if all(made in stand for made in rows):
-                found.append(list(zip(letters, choice)))
-                self.assertEqual(filled(body, found[-1]), rows)
-        return found
-
     def any_stand(self, chance):
-        cells = [blank(9), blank(10), X, Y, W]
-        return stand_of([
-            (chance.choice("ef"), tuple(chance.choices(cells, k=chance.choice([1, 2, 2, 3]))))
-            for count in range(chance.randint(0, 30))
-        ])
+        return some_stand(chance, chance.randint(0, 30), [blank(9), blank(10), X, Y, W])
 
     def any_body(self, chance):
         terms = [A, B, C, Z, X]
@@ -238,15 +200,16 @@ class AgainstTheWords(unittest.TestCase):
         some = 0
         for count in range(3000):
             stand, body = self.any_stand(chance), self.any_body(chance)
-            told = self.plain_fits(stand, body)
+            told = plain_fits(stand, body)
             some += len(told) > 1
             with self.subTest(stand=stand, body=body):
                 self.assertEqual(fits(stand, body), told)
+                self.assertEqual([filled(body, fit) for fit in told], [plain_filled(body, fit) for fit in told])
                 self.check_answers(chance, stand, body, told)
         self.assertGreater(some, 300)
 
     def check_answers(self, chance, stand, body, told):
-        letters = sorted({term[1] for table, terms in body for term in terms if term[0] == "any"})
+        letters = plain_letters(body)
         asked = chance.choices(letters, k=chance.randint(0, 5)) if letters else []
         self.assertEqual(
             answers(stand, (asked, body)),

@@ -3,14 +3,21 @@
 import copy
 import unittest
 
+from mustrows.cores import least_part
 from mustrows.fits import answers, filled, fits
+from mustrows.fulls import full
+from mustrows.maps import led, renamed
+from mustrows.rules import broken, fresh, keeps
 from mustrows.stands import blanks_of, moved, stand_of
+from things import A, B, C, X, Y, blank, row
 
-X, Y = ("name", "x"), ("name", "y")
-A, B = ("any", "A"), ("any", "B")
 STAND = [("e", (("blank", 1), X)), ("e", (X, Y)), ("u", (X,))]
 LOOSE = [STAND[2], STAND[0], STAND[2], STAND[1]]
 BODY = [("u", (A,)), ("e", (A, B))]
+CHAIN = [row("e", blank(0), blank(1)), row("e", blank(1), blank(2)), row("e", X, X)]
+ON = ("must", [row("e", A, B)], [row("e", B, C), row("u", C)])
+NAMED = ("must", [row("u", A)], [row("v", A), row("v", X)])
+ONE_EACH = ("same", [row("e", A, B), row("e", A, C)], B, C)
 
 CALLS = [
     (stand_of, (LOOSE,)),
@@ -29,7 +36,31 @@ CALLS = [
     (answers, (STAND, (["B", "A", "B"], BODY))),
     (answers, (STAND, ([], []))),
     (answers, (STAND, (["A"], [("e", (A, A))]))),
+    (led, (CHAIN, STAND + [row("w", X)])),
+    (led, (CHAIN, CHAIN)),
+    (led, ([], STAND)),
+    (led, (STAND, CHAIN)),
+    (renamed, (CHAIN, [row("e", blank(7), blank(3)), row("e", blank(9), blank(7)), row("e", X, X)])),
+    (renamed, ([], [])),
+    (renamed, (CHAIN, STAND)),
+    (least_part, (CHAIN,)),
+    (least_part, (STAND,)),
+    (least_part, ([],)),
+    (fresh, (ON,)),
+    (fresh, (NAMED,)),
+    (broken, (CHAIN, ON)),
+    (broken, (STAND, ONE_EACH)),
+    (broken, (STAND, ("must", [row("u", X)], [row("v", B)]))),
+    (keeps, (CHAIN, [ON, ONE_EACH])),
+    (full, (STAND, [ON, NAMED, ONE_EACH], 6)),
+    (full, (STAND, [NAMED, ONE_EACH], 6)),
+    (full, (STAND, [], 0)),
+    (full, (STAND, [ON], 0)),
+    (full, (STAND, [("same", [row("e", A, B)], A, B)], 6)),
+    (full, (STAND, [("same", [row("u", A)], X, Y)], 6)),
 ]
+KINDS = {led: tuple, renamed: tuple, least_part: tuple, keeps: bool, full: tuple}
+PARTS = {blanks_of: int, fits: list, broken: list, fresh: str}
 
 
 def lists_in(value):
@@ -87,10 +118,9 @@ class HandedIn(unittest.TestCase):
         for ask, given in self.calls:
             with self.subTest(ask=ask.__name__, given=given):
                 told = ask(*given)
-                self.assertIs(type(told), list)
-                kind = {blanks_of: int, fits: list}.get(ask, tuple)
-                for part in told:
-                    self.assertIs(type(part), kind)
+                self.assertIs(type(told), KINDS.get(ask, list))
+                for part in told if isinstance(told, list) else []:
+                    self.assertIs(type(part), PARTS.get(ask, tuple))
 
 
 class GreatOnes(unittest.TestCase):
@@ -112,6 +142,18 @@ class GreatOnes(unittest.TestCase):
             [(letter, ("blank", k + place)) for place, letter in enumerate("ABCDEF")] for k in range(57)
         ])
         self.assertEqual(filled(body, told[0]), stand[:4])
+
+    def test_somewhat_more_than_the_bounds(self):
+        letters = [("any", letter) for letter in "ABCDEFGH"]
+        chain = stand_of([row("e", blank(k), blank(k + 1)) for k in range(70)])
+        body = [row("e", one, other) for one, other in zip(letters[:5], letters[1:6])]
+        rule = ("must", body, [row("f", *letters[:6]), row("g", *letters[5:])])
+        self.assertEqual(len(broken(chain, rule)), 66)
+        told = full(chain, [rule] * 9, 45)
+        self.assertEqual((told[0], len(told[2])), ("open", 45))
+        self.assertEqual(len(least_part(chain)[0]), 70)
+        self.assertEqual(led(chain, told[1])[0], "led")
+        self.assertEqual(renamed(told[1], moved(told[1], [(0, blank(1)), (1, blank(0))]))[0], "same")
 
 
 if __name__ == "__main__":

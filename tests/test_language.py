@@ -1,163 +1,128 @@
-"""The package's files keep to the part of Python that the program is written in, as far as a walk can see it."""
+"""The package's files keep to the part of Python that the program is written in."""
 
-import ast
-import builtins
 import pathlib
-import re
 import unittest
+
+from language import faults, package_faults
 
 PACKAGE = pathlib.Path(__file__).resolve().parent.parent / "mustrows"
 
-STATEMENTS = (
-    ast.FunctionDef, ast.ClassDef, ast.ImportFrom, ast.Assign, ast.AugAssign, ast.If, ast.While, ast.For,
-    ast.Return, ast.Break, ast.Continue, ast.Pass, ast.Raise, ast.Try, ast.Expr,
+BROKEN = (
+    ("L2", "def told():\n    from mustrows.sample import told\n    return told\n"),
+    ("L2", "import os\n"),
+    ("L3", "print = 1\nprint(1)\n"),
+    ("L3", "NUMBER = len('abc')\n"),
+    ("L3", "'a'\n'b'\n"),
+    ("L4", "def told(*rows):\n    return rows\n"),
+    ("L4", "def told(rows, *, count):\n    return rows\n"),
+    ("L4", "def told(rows=len('a')):\n    return rows\n"),
+    ("L5", "class Told:\n    count = 1\n"),
+    ("L5", "class One:\n    pass\n\n\nclass Two:\n    pass\n\n\nclass Told(One, Two):\n    pass\n"),
+    ("L6", "def told(rows):\n    del rows[0]\n"),
+    ("L6", "def told(rows):\n    one = other = rows\n    return one + other\n"),
+    ("L6", "def told(rows):\n    one, other = rows\n    return one + other\n"),
+    ("L6", "def told(rows):\n    for row in rows:\n        pass\n    else:\n        pass\n"),
+    ("L6", "def told(rows):\n    assert rows\n"),
+    ("L6", "def told(rows):\n    yield rows\n"),
+    ("L7", "def told(rows):\n    return {row: True for row in rows}\n"),
+    ("L7", "def told(rows):\n    return all(row for row in rows)\n"),
+    ("L7", "def told(count):\n    return count / 2\n"),
+    ("L7", "def told(rows):\n    return [*rows]\n"),
+    ("L7", "def told(rows):\n    return [one for row in rows for one in row]\n"),
+    ("L7", "def told(rows):\n    return f'{rows[0]}'\n"),
+    ("L7", "def told():\n    return 1.5\n"),
+    ("L8", "def told(rows):\n    return iter(rows)\n"),
+    ("L8", "def told(rows):\n    print(rows)\n"),
+    ("L8", "def told(number):\n    return chr(number)\n"),
+    ("L10", "def told():\n" + "    pass\n" * 40),
+    ("L10", "# " + "a" * 119 + "\n"),
+    ("L10", "# a\n" * 401),
+    ("L12", "def told(rows):\n    return [1 for _ in rows]\n"),
+    ("L12", "def _told(rows):\n    return rows\n"),
+    ("L13", "def told(one):\n    return one in (1, 2) or {1, 2, 3} == one\n"),
+    ("L13", "def told(rows):\n    return [lambda one: 1, lambda one: 2]\n"),
+    ("L14", "# \u00e9\n"),
+    ("L14", "# a\tb\n"),
+    ("L15", "def told(hash):\n    return hash\n"),
+    ("L15", "def told():\n    pass\n\n\ndef told():\n    pass\n"),
+    ("L15", "ROWS = [[1], 2]\n"),
+    ("L15", "ROWS = [1]\n\n\ndef told(one):\n    ROWS.append(one)\n"),
+    ("L15", "ROWS = [1]\n\n\ndef told(one):\n    ROWS[0] = one\n"),
+    ("L15", "ROWS = [1]\n\n\ndef told():\n    return ROWS\n"),
+    ("L15", "class Told:\n    pass\n\n\ndef told(Told):\n    return Told\n"),
+    ("L15", "def told():\n    class Told:\n        pass\n    return Told()\n"),
+    ("L16", "from os import path\n"),
+    ("L16", "from mustrows.other import told\n"),
+    ("L16", "from mustrows.sample import told\n\n\ndef told():\n    pass\n"),
+    ("L17", "# a type\n"),
+    ("L17", "def told(rows):\n    return rows.open()\n"),
+    ("L18", "class Told:\n    pass\n\n\ndef told():\n    return [Told]\n"),
+    ("L18", "class Told:\n    pass\n\n\ndef told():\n    Told.count = 1\n"),
+    ("L18", "class Told(StopIteration):\n    pass\n"),
+    ("L18", "class Told:\n    def one(self):\n        pass\n\n\ndef told(row):\n    row.one = 1\n"),
+    ("L19", "def told(rows):\n    try:\n        return rows[0]\n    except Exception:\n        return None\n"),
+    ("L19", "def told(rows):\n    try:\n        return told(rows)\n    except ValueError:\n        return None\n"),
+    ("L19", "def told(error):\n    raise error\n"),
+    ("L20", "def told(one, other):\n    return one is other\n"),
+    ("L20", "def told(one):\n    return one is 1\n"),
+    ("L21", "def told(rows: list):\n    return rows\n"),
+    ("L22", "def told(rows):\n    return [len, rows]\n"),
+    ("L22", "def told(rows):\n    return list(rows, key=len)\n"),
+    ("L22", "def told(rows):\n    return rows.index(other=1)\n"),
+    ("L23", "def told(rows):\n    pairs = zip(rows, rows)\n    return list(pairs)\n"),
+    ("L23", "def told(rows):\n    keys = rows.keys()\n    return list(keys)\n"),
+    ("L23", "def told(rows):\n    for row in rows:\n        rows.append(row)\n"),
+    ("L23", "def told(rows):\n    for place, row in enumerate(rows):\n        rows[place] = row\n"),
+    ("L24", "def told(rows):\n    return list(set(rows))\n"),
+    ("L24", "def told(rows):\n    seen = {1}\n    return seen\n"),
+    ("L25", "def told(rows):\n    rows.sort()\n    return rows\n"),
+    ("L25", "def told(rows):\n    return rows.append\n"),
+    ("L26", "def told(row):\n    row.items = 1\n"),
+    ("L26", "class Told:\n    def title(self):\n        return 1\n"),
+    ("L27", "def told(count):\n    return 2 ** count\n"),
+    ("L27", "def told():\n    return 'a%b'\n"),
+    ("L27", "def told():\n    return '\\x41'\n"),
+    ("L28", "class Told:\n    def __init__(self):\n        return None\n"),
+    ("L28", "class Told:\n    def __len__(self):\n        return 1\n"),
 )
-EXPRESSIONS = (
-    ast.Constant, ast.Name, ast.List, ast.Tuple, ast.Dict, ast.Set, ast.BinOp, ast.UnaryOp, ast.Compare, ast.BoolOp,
-    ast.IfExp, ast.Call, ast.Attribute, ast.Subscript, ast.Slice, ast.ListComp, ast.JoinedStr, ast.FormattedValue,
-    ast.Lambda,
-)
-BUILTINS = """
-    len range enumerate zip min max sum abs sorted reversed int str bool list tuple dict set frozenset isinstance ord
-    repr any all divmod Exception ValueError TypeError KeyError IndexError LookupError ZeroDivisionError
-    ArithmeticError OverflowError RuntimeError NotImplementedError AttributeError StopIteration
-""".split()
-METHODS = """
-    append clear copy count endswith extend find get index insert isalnum isalpha isdigit islower isspace isupper items
-    join keys ljust lower lstrip partition pop remove replace reverse rfind rjust rpartition rsplit rstrip setdefault
-    split splitlines startswith strip update upper values zfill bit_length
-""".split()
-WORDS = """
-    type typing typing_extensions enum Enum IntEnum StrEnum Flag IntFlag Generic Protocol ABC ABCMeta namedtuple
-    NamedTuple TypedDict TYPE_CHECKING abstractmethod
-""".split()
-WALKED_AT_ONCE = ("zip", "enumerate", "reversed", "range")
+
+KEPT = """\"\"\"A file that keeps to the rules.\"\"\"
+
+LIMIT = -4
+WORDS = ["one", "two"]
 
 
-def faults(text):
-    """What the text of a file breaks, as pairs of a rule and a line."""
-    return sorted(set(sign_faults(text) + tree_faults(ast.parse(text))))
+class Refused(ValueError):
+    pass
 
 
-def sign_faults(text):
-    found = []
-    lines = text.split("\n")
-    for number, line in enumerate(lines, start=1):
-        if len(line) > 120:
-            found.append(("L10", number))
-        if not re.fullmatch("[ -~]*", line):
-            found.append(("L14", number))
-        if set(re.findall(r"\w+", line)) & set(WORDS) or re.search("dataclass|overload|contextmanager", line):
-            found.append(("L17", number))
-    if len(lines) > 401:
-        found.append(("L10", len(lines)))
-    return found
+class Heap:
+    def __init__(self, rows):
+        self.rows = list(rows)
+
+    def taken(self):
+        if not self.rows:
+            raise Refused("no rows")
+        return self.rows.pop()
 
 
-def tree_faults(tree):
-    top = names_of_the_top(tree)
-    own = {node.name for node in ast.walk(tree) if isinstance(node, ast.FunctionDef)}
-    own |= {node.attr for node in ast.walk(tree) if isinstance(node, ast.Attribute) and isinstance(node.ctx, ast.Store)}
-    found = [("L3", node.lineno) for node in tree.body if not may_stand_at_the_top(node)]
-    for node in ast.walk(tree):
-        for rule, fault in (
-            ("L6", isinstance(node, ast.stmt) and not isinstance(node, STATEMENTS)),
-            ("L6", isinstance(node, ast.Expr) and not is_call_or_text(node.value)),
-            ("L6", isinstance(node, ast.Assign) and len(node.targets) != 1),
-            ("L6", isinstance(node, (ast.For, ast.While)) and bool(node.orelse)),
-            ("L7", isinstance(node, ast.expr) and not isinstance(node, EXPRESSIONS)),
-            ("L7", isinstance(node, ast.Div)),
-            ("L7", isinstance(node, ast.Constant) and isinstance(node.value, (float, bytes))),
-            ("L7", isinstance(node, ast.ListComp) and is_wide(node)),
-            ("L10", isinstance(node, ast.FunctionDef) and node.end_lineno - node.lineno >= 40),
-            ("L4", isinstance(node, (ast.FunctionDef, ast.ClassDef)) and bool(node.decorator_list)),
-            ("L4", isinstance(node, (ast.FunctionDef, ast.Lambda)) and has_stars(node.args)),
-            ("L16", isinstance(node, ast.ImportFrom) and not is_own_import(node)),
-            ("L25", isinstance(node, ast.Attribute) and node.attr not in METHODS and node.attr not in own),
-            ("L12", bool(re.match("_", bound_name(node)))),
-            ("L15", bound_name(node) in dir(builtins)),
-        ):
-            if fault:
-                found.append((rule, node.lineno if hasattr(node, "lineno") else 0))
-    return found + name_faults(tree, top) + walk_faults(tree) + set_faults(tree)
+def told(rows, most=2):
+    found = {}
+    for place, row in enumerate(rows):
+        if row in WORDS and place < most and row is not None:
+            found[row] = place
+    for word in sorted(set(rows)):
+        found.setdefault(word, LIMIT)
+    try:
+        number = int("a\\n")
+    except ValueError:
+        number = 2 ** 3
+    return [f"{key}: {value!r}" for key, value in found.items() if isinstance(value, int) and value != number]
 
 
-def names_of_the_top(tree):
-    names = []
-    for node in tree.body:
-        if isinstance(node, ast.ImportFrom):
-            names.extend(alias.name for alias in node.names)
-        elif isinstance(node, (ast.FunctionDef, ast.ClassDef)):
-            names.append(node.name)
-        elif isinstance(node, ast.Assign):
-            names.extend(target.id for target in node.targets)
-    return names
-
-
-def may_stand_at_the_top(node):
-    if isinstance(node, ast.Expr):
-        return isinstance(node.value, ast.Constant) and isinstance(node.value.value, str)
-    return isinstance(node, (ast.ImportFrom, ast.FunctionDef, ast.ClassDef, ast.Assign))
-
-
-def is_call_or_text(node):
-    return isinstance(node, ast.Call) or isinstance(node, ast.Constant) and isinstance(node.value, str)
-
-
-def is_wide(node):
-    return len(node.generators) != 1 or len(node.generators[0].ifs) > 1
-
-
-def has_stars(arguments):
-    return bool(arguments.vararg or arguments.kwarg or arguments.kwonlyargs or arguments.posonlyargs)
-
-
-def is_own_import(node):
-    plain = all(alias.name != "*" and alias.asname is None for alias in node.names)
-    return node.level == 0 and node.module.startswith("mustrows.") and plain
-
-
-def bound_name(node):
-    if isinstance(node, ast.Name) and isinstance(node.ctx, ast.Store):
-        return node.id
-    return node.arg if isinstance(node, ast.arg) else ""
-
-
-def name_faults(tree, top):
-    """Names that are read and are neither the file's own nor among Python's own that are let by."""
-    bound = set(top) | {bound_name(node) for node in ast.walk(tree)}
-    bound |= {node.name for node in ast.walk(tree) if isinstance(node, (ast.FunctionDef, ast.ExceptHandler))}
-    return [
-        ("L8", node.lineno) for node in ast.walk(tree)
-        if isinstance(node, ast.Name) and node.id not in bound and node.id not in BUILTINS
-    ]
-
-
-def calls_of(node, names):
-    return isinstance(node, ast.Call) and isinstance(node.func, ast.Name) and node.func.id in names
-
-
-def walk_faults(tree):
-    walked = set()
-    for node in ast.walk(tree):
-        if isinstance(node, (ast.For, ast.comprehension)):
-            walked.add(node.iter)
-        elif calls_of(node, "list tuple dict sorted sum any all enumerate zip min max".split()) and node.args:
-            walked.add(node.args[0])
-    return [
-        ("L23", node.lineno) for node in ast.walk(tree) if calls_of(node, WALKED_AT_ONCE) and node not in walked
-    ]
-
-
-def set_faults(tree):
-    """A set stands straight within sorted or len, or beside a comparison: else it is kept or walked."""
-    let_by = set()
-    for node in ast.walk(tree):
-        if calls_of(node, ("sorted", "len")) and not node.keywords:
-            let_by.update(ast.walk(node.args[0]) if isinstance(node.args[0], ast.BinOp) else [node.args[0]])
-        elif isinstance(node, ast.Compare):
-            let_by.update([node.left] + node.comparators)
-    return [("L24", node.lineno) for node in ast.walk(tree) if calls_of(node, ("set",)) and node not in let_by]
+def least(rows):
+    return min(rows, key=lambda row: (len(row), row), default=None)
+"""
 
 
 class Language(unittest.TestCase):
@@ -168,31 +133,32 @@ class Language(unittest.TestCase):
             self.assertRegex(entry, "^([a-z][a-z0-9_]*|__init__|__main__)[.]py$")
 
     def test_the_files_keep_to_the_rules(self):
-        for path in sorted(PACKAGE.glob("*.py")):
-            with self.subTest(file=path.name):
-                self.assertEqual(faults(path.read_text(encoding="utf-8")), [])
+        paths = sorted(PACKAGE.glob("*.py"))
+        texts = {f"mustrows.{path.stem}": path.read_text(encoding="utf-8") for path in paths}
+        self.assertEqual(package_faults(texts), [])
+        for path in paths:
+            self.assertNotIn(b"\r", path.read_bytes())
 
     def test_what_breaks_a_rule_is_found(self):
-        for rule, text in (
-            ("L3", "print = 1\nprint(1)\n"),
-            ("L4", "def told(*rows):\n    return rows\n"),
-            ("L6", "def told(rows):\n    del rows[0]\n"),
-            ("L6", "def told(rows):\n    one = other = rows\n    return one + other\n"),
-            ("L7", "def told(rows):\n    return {row: True for row in rows}\n"),
-            ("L7", "def told(count):\n    return count / 2\n"),
-            ("L8", "def told(rows):\n    return iter(rows)\n"),
-            ("L10", "def told():\n" + "    pass\n" * 40),
-            ("L12", "def told(rows):\n    return [1 for _ in rows]\n"),
-            ("L14", "# \u00e9\n"),
-            ("L15", "def told(hash):\n    return hash\n"),
-            ("L16", "import os\nfrom os import path\n"),
-            ("L17", "# a type\n"),
-            ("L23", "def told(rows):\n    pairs = zip(rows, rows)\n    return list(pairs)\n"),
-            ("L24", "def told(rows):\n    return list(set(rows))\n"),
-            ("L25", "def told(rows):\n    rows.sort()\n    return rows\n"),
-        ):
+        for rule, text in BROKEN:
             with self.subTest(rule=rule, text=text):
-                self.assertIn(rule, [fault[0] for fault in faults(text)])
+                self.assertIn(rule, faults(text))
+
+    def test_what_keeps_the_rules_is_let_by(self):
+        self.assertEqual(faults(KEPT), [])
+
+    def test_files_that_draw_from_one_another_are_found(self):
+        one = "from mustrows.two import two\n\n\ndef one():\n    return two()\n"
+        two = "from mustrows.one import one\n\n\ndef two():\n    return one()\n"
+        found = package_faults({"mustrows.one": one, "mustrows.two": two})
+        self.assertEqual([fault for fault in found if fault[2] == "L16"], [
+            ("mustrows.one", 0, "L16"), ("mustrows.two", 0, "L16"),
+        ])
+
+    def test_names_of_files(self):
+        for module in ("mustrows.Told", "mustrows.test_told", "mustrows.sum", "mustrows.site", "mustrows.typing"):
+            with self.subTest(module=module):
+                self.assertIn("L14", faults("", module))
 
 
 if __name__ == "__main__":

@@ -4,18 +4,7 @@ import itertools
 import unittest
 
 from mustrows.stands import blanks_of, moved, stand_of
-
-
-def name(text):
-    return ("name", text)
-
-
-def blank(number):
-    return ("blank", number)
-
-
-def row(table, *cells):
-    return (table, tuple(cells))
+from things import blank, name, row
 
 
 class StandOf(unittest.TestCase):
