@@ -1,17 +1,15 @@
-"""Stands made full, step by step, [14] and [15], and what that leads to, [3]."""
+"""Stands made full, step by step: [14] and [15]."""
 
 import itertools
 import random
 import unittest
 
-from mustrows.cores import least_part
 from mustrows.fulls import full
-from mustrows.maps import led, renamed
 from mustrows.rules import broken
-from mustrows.stands import moved, stand_of
+from mustrows.stands import stand_of
 from things import (
-    A, B, C, D, E, W, X, Y, Z, blank, edges, plain_blanks, plain_broken, plain_filled, plain_led, plain_letters,
-    plain_moved, plain_two, ring, row, some_stand,
+    A, B, C, D, E, W, X, Y, Z, blank, edges, plain_blanks, plain_broken, plain_filled, plain_letters, plain_moved,
+    plain_two, row,
 )
 
 ON = ("must", [row("e", A, B)], [row("e", B, C)])
@@ -260,101 +258,6 @@ class AnyFit:
 
     def __iter__(self):
         return iter([] if len(self.cells) == 1 else [list(zip("ABCD", self.cells * 2))])
-
-
-def some_rules(chance):
-    """Rules of a unary table u and a table e of pairs."""
-    def pattern(terms):
-        return row("u", chance.choice(terms)) if chance.random() < 0.4 else row("e", *chance.choices(terms, k=2))
-    rules = []
-    for count in range(chance.randint(1, 3)):
-        body = [pattern([A, B, C, A, B, C, X]) for part in range(chance.choice((1, 1, 2)))]
-        bound = [("any", letter) for letter in plain_letters(body)] + [X]
-        if chance.random() < 0.7:
-            rules.append(("must", body, [pattern(bound + bound + [D, Z]) for part in range(chance.choice((1, 1, 2)))]))
-        else:
-            rules.append(("same", body, chance.choice(bound), chance.choice(bound + [Y])))
-    return rules
-
-
-def little_stands(cells):
-    """Each stand of u and e over the cells."""
-    lines = [row("u", cell) for cell in cells] + [row("e", *pair) for pair in itertools.product(cells, repeat=2)]
-    for count in range(len(lines) + 1):
-        for chosen in itertools.combinations(lines, count):
-            yield stand_of(list(chosen))
-
-
-class TheWhole(Told):
-    """What is made full, and every stand that keeps the rules: [3]."""
-
-    LITTLE = [stand for cells in ((X, Y), (X, blank(0)), (blank(0), blank(1))) for stand in little_stands(cells)]
-
-    def some_begin(self, chance):
-        cells = [blank(0), blank(1), blank(2), X, Y]
-        stand = some_stand(chance, chance.randint(1, 3), cells, "e", (2,)) + some_stand(chance, 1, cells, "u", (1,))
-        return stand_of(stand)
-
-    def test_led_into_each_home_or_there_is_none(self):
-        chance = random.Random(10)
-        count = {"full": 0, "clash": 0, "open": 0}
-        homes_seen = 0
-        for turn in range(250):
-            stand, rules = self.some_begin(chance), some_rules(chance)
-            with self.subTest(stand=stand, rules=rules):
-                told = self.check_told(stand, rules, 12, broken)
-                count[told[0]] += 1
-                homes = [
-                    home for home in self.LITTLE
-                    if plain_led(stand, home) and not any(plain_broken(home, rule) for rule in rules)
-                ]
-                homes_seen += len(homes)
-                if told[0] == "clash":
-                    self.assertEqual(homes, [])
-                else:
-                    for home in homes:
-                        self.assertEqual(led(told[1], home)[0], "led")
-        self.assertGreater(min(count["full"], count["clash"]), 15)
-        self.assertGreater(homes_seen, 300)
-
-    def test_led_into_homes_that_are_full_ones_themselves(self):
-        chance = random.Random(11)
-        seen = 0
-        for turn in range(300):
-            stand, rules = self.some_begin(chance), some_rules(chance)
-            told = full(stand, rules, 25)
-            cells = [blank(number) for number in range(5)] + [X, Y]
-            moves = [(number, chance.choice(cells)) for number in plain_blanks(stand)]
-            more = stand_of(moved(stand, moves) + some_stand(chance, 2, cells, "e", (2,)))
-            home = full(more, rules, 25)
-            with self.subTest(stand=stand, rules=rules, more=more):
-                if told[0] == "clash":
-                    self.assertNotEqual(home[0], "full")
-                elif home[0] == "full":
-                    self.assertEqual(led(told[1], home[1])[0], "led")
-                    seen += 1
-        self.assertGreater(seen, 80)
-
-    def test_in_whatever_order_the_rules_are_told(self):
-        chance = random.Random(12)
-        seen = 0
-        for turn in range(300):
-            stand, rules = self.some_begin(chance), some_rules(chance)
-            told = [full(stand, list(order), 25) for order in itertools.permutations(rules)]
-            words = {one[0] for one in told}
-            with self.subTest(stand=stand, rules=rules):
-                self.assertFalse({"full", "clash"} <= words)
-                fulls = [one[1] for one in told if one[0] == "full"]
-                for one, other in zip(fulls, fulls[1:]):
-                    seen += 1
-                    self.assertEqual((led(one, other)[0], led(other, one)[0]), ("led", "led"))
-                    self.assertEqual(renamed(least_part(one)[0], least_part(other)[0])[0], "same")
-        self.assertGreater(seen, 150)
-
-    def test_a_home_of_a_ring(self):
-        told = full(edges([(0, 1)]), [("must", [row("e", A, B)], [row("e", B, C), row("e", C, A)])], 40)
-        self.assertEqual(told[:2], ("full", ring(3)))
-        self.assertEqual(led(told[1], ring(3, 7))[0], "led")
 
 
 if __name__ == "__main__":

@@ -4,11 +4,15 @@ import copy
 import unittest
 
 from mustrows.cores import least_part
+from mustrows.desk import Desk
 from mustrows.fits import answers, filled, fits
 from mustrows.fulls import full
 from mustrows.maps import led, renamed
+from mustrows.places import ranks
 from mustrows.rules import broken, fresh, keeps
 from mustrows.stands import blanks_of, moved, stand_of
+from mustrows.sures import sure
+from mustrows.texts import read_question, read_row, read_rule, show_question, show_row, show_rule
 from things import A, B, C, X, Y, blank, row
 
 STAND = [("e", (("blank", 1), X)), ("e", (X, Y)), ("u", (X,))]
@@ -58,8 +62,29 @@ CALLS = [
     (full, (STAND, [ON], 0)),
     (full, (STAND, [("same", [row("e", A, B)], A, B)], 6)),
     (full, (STAND, [("same", [row("u", A)], X, Y)], 6)),
+    (ranks, ([NAMED, ONE_EACH],)),
+    (ranks, ([("must", [row("u", A)], [row("e", A, B)]), NAMED],)),
+    (ranks, ([NAMED, ON, ("must", [row("u", A)], [row("u", B), row("e", B, A)])],)),
+    (ranks, ([],)),
+    (sure, (STAND, [NAMED, ON], (["B", "A", "B"], BODY), 3)),
+    (sure, (STAND, [NAMED, ONE_EACH], (["A"], [row("e", A, B)]), 6)),
+    (sure, (STAND, [], ([], []), 0)),
+    (sure, (STAND, [("same", [row("u", A)], X, Y)], (["A"], BODY), 6)),
+    (show_row, (STAND[0],)),
+    (show_rule, (ON,)),
+    (show_rule, (ONE_EACH,)),
+    (show_question, ((["B", "A", "B"], BODY),)),
+    (show_question, (([], BODY),)),
+    (read_row, ("e ?1 x",)),
+    (read_rule, ("e A B => e B C, u C",)),
+    (read_rule, ("e A B, e A C => B = C",)),
+    (read_question, ("B A B: u A, e A B",)),
+    (read_question, (": u A",)),
 ]
-KINDS = {led: tuple, renamed: tuple, least_part: tuple, keeps: bool, full: tuple}
+KINDS = {
+    led: tuple, renamed: tuple, least_part: tuple, keeps: bool, full: tuple, ranks: tuple, sure: tuple, show_row: str,
+    show_rule: str, show_question: str, read_row: tuple, read_rule: tuple, read_question: tuple,
+}
 PARTS = {blanks_of: int, fits: list, broken: list, fresh: str}
 
 
@@ -123,6 +148,28 @@ class HandedIn(unittest.TestCase):
                     self.assertIs(type(part), PARTS.get(ask, tuple))
 
 
+class Interface(unittest.TestCase):
+    """The names and arguments that everything is asked by."""
+
+    def test_names_of_arguments(self):
+        for words in (
+            "stand_of rows", "blanks_of rows", "moved rows moves", "fits rows body", "filled patterns fit",
+            "answers rows question", "led one other", "renamed one other", "least_part rows", "fresh rule",
+            "broken rows rule", "keeps rows rules", "full rows rules most", "ranks rules",
+            "sure rows rules question most", "show_row row", "show_rule rule", "show_question question",
+            "read_row text", "read_rule text", "read_question text",
+        ):
+            word, *arguments = words.split()
+            with self.subTest(word=word):
+                calls = [(ask, given) for ask, given in CALLS if ask.__name__ == word]
+                self.assertGreater(len(calls), 0)
+                for ask, given in calls:
+                    self.assertEqual(ask(**dict(zip(arguments, given, strict=True))), ask(*given))
+
+    def test_desk(self):
+        self.assertEqual(Desk().say(row="show"), "")
+
+
 class GreatOnes(unittest.TestCase):
     """The bounds within which things are handed in."""
 
@@ -154,6 +201,10 @@ class GreatOnes(unittest.TestCase):
         self.assertEqual(len(least_part(chain)[0]), 70)
         self.assertEqual(led(chain, told[1])[0], "led")
         self.assertEqual(renamed(told[1], moved(told[1], [(0, blank(1)), (1, blank(0))]))[0], "same")
+        self.assertEqual(ranks([rule] * 9)[0], "ranks")
+        question = (list("FEDCBAABC"), body)
+        self.assertEqual(sure(chain, [rule] * 9, question, 45), ("open", []))
+        self.assertEqual(show_question(question)[:22], "F E D C B A A B C: e A")
 
 
 if __name__ == "__main__":

@@ -111,3 +111,55 @@ def plain_broken(stand, rule):
     together = plain_fits(stand, rule[1] + rule[2])
     kept = [[pair for pair in fit if pair[0] in letters] for fit in together]
     return [fit for fit in found if fit not in kept]
+
+
+def some_rules(chance):
+    """Rules of a unary table u and a table e of pairs."""
+    def pattern(terms):
+        return row("u", chance.choice(terms)) if chance.random() < 0.4 else row("e", *chance.choices(terms, k=2))
+    rules = []
+    for count in range(chance.randint(1, 3)):
+        body = [pattern([A, B, C, A, B, C, X]) for part in range(chance.choice((1, 1, 2)))]
+        bound = [("any", letter) for letter in plain_letters(body)] + [X]
+        if chance.random() < 0.7:
+            rules.append(("must", body, [pattern(bound + bound + [D, Z]) for part in range(chance.choice((1, 1, 2)))]))
+        else:
+            rules.append(("same", body, chance.choice(bound), chance.choice(bound + [Y])))
+    return rules
+
+
+def some_begin(chance):
+    """A stand of the same tables."""
+    cells = [blank(0), blank(1), blank(2), X, Y]
+    return stand_of(
+        some_stand(chance, chance.randint(1, 3), cells, "e", (2,)) + some_stand(chance, 1, cells, "u", (1,))
+    )
+
+
+def little_stands(cells):
+    """Each stand of u and e over the cells."""
+    lines = [row("u", cell) for cell in cells] + [row("e", *pair) for pair in itertools.product(cells, repeat=2)]
+    for count in range(len(lines) + 1):
+        for chosen in itertools.combinations(lines, count):
+            yield stand_of(list(chosen))
+
+
+LITTLE = [stand for cells in ((X, Y), (X, blank(0)), (blank(0), blank(1))) for stand in little_stands(cells)]
+
+
+def little_homes(stand, rules):
+    """Some of the stands that keep the rules and into which the stand is led."""
+    return [
+        home for home in LITTLE
+        if plain_led(stand, home) and not any(plain_broken(home, rule) for rule in rules)
+    ]
+
+
+def plain_answers(stand, question):
+    """The answers as a set."""
+    letters, body = question
+    return {tuple(dict(fit)[letter] for letter in letters) for fit in plain_fits(stand, body)}
+
+
+def has_blank(cells):
+    return any(kind == "blank" for kind, value in cells)
